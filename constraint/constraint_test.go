@@ -4,7 +4,6 @@ import (
 	"fmt"
 	"math"
 	"math/rand"
-	"reflect"
 	"slices"
 	"strings"
 	"testing"
@@ -76,7 +75,7 @@ func TestCheck(t *testing.T) {
 			t.Errorf("%s: error %d, not %d", c.name, got, c.want)
 		}
 		n, e := Net(l, c.r)
-		if e != c.want || e != api.OK && !reflect.DeepEqual(n, api.Net{}) {
+		if e != c.want || e != api.OK && (n.Places != 0 || n.Arcs != nil) {
 			t.Errorf("%s: network %v, error %d, not %d", c.name, n, e, c.want)
 		}
 	}
@@ -86,7 +85,7 @@ func TestCheckOfBadLaws(t *testing.T) {
 	for want, l := range badLaws(t) {
 		for _, r := range [][]api.Range{nil, {rangeOf("", 0, 1, 0)}, make([]api.Range, 121)} {
 			n, e := Net(l, r)
-			if got := Check(l, r); got != want || e != want || !reflect.DeepEqual(n, api.Net{}) {
+			if got := Check(l, r); got != want || e != want || (n.Places != 0 || n.Arcs != nil) {
 				t.Errorf("errors %d and %d, network %v, not %d", got, e, n, want)
 			}
 		}
@@ -286,7 +285,7 @@ func TestFlowOfRandomLines(t *testing.T) {
 	r := rand.New(rand.NewSource(8))
 	for range 300 {
 		l := randomLaw(r, mostAmount)
-		lines := copied(l.Lines)
+		lines := slices.Clone(l.Lines)
 		flow, e := Flow(l, lines)
 		if want := flowOf(l, lines); e != api.OK || !slices.Equal(flow, want) {
 			t.Fatalf("flow of\n%s: error %d, %v, not %v", budget.Text(l), e, flow, want)
@@ -508,7 +507,7 @@ func TestArgumentsStayAsTheyAre(t *testing.T) {
 	for range 50 {
 		l := randomLaw(r, 5)
 		ranges := randomRanges(r, l, 5)
-		law, rs := copied(l), copied(ranges)
+		law, rs := copyOf(l), slices.Clone(ranges)
 		net, _ := Net(l, ranges)
 		flow, _ := Flow(l, l.Lines)
 		lines, _ := Lines(l, flow)
@@ -516,14 +515,14 @@ func TestArgumentsStayAsTheyAre(t *testing.T) {
 		Check(l, ranges)
 		Kept(l)
 		Meets(net, flow)
-		if !reflect.DeepEqual(l, law) || !reflect.DeepEqual(ranges, rs) {
+		if !budget.Same(l, law) || !slices.Equal(ranges, rs) {
 			t.Fatal("an argument was changed")
 		}
 		clear(net.Arcs)
 		clear(flow)
 		clear(lines)
 		clear(breaches)
-		if !reflect.DeepEqual(l, law) || !reflect.DeepEqual(ranges, rs) {
+		if !budget.Same(l, law) || !slices.Equal(ranges, rs) {
 			t.Fatal("a result shares memory with an argument")
 		}
 	}

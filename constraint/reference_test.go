@@ -3,7 +3,6 @@ package constraint
 import (
 	"fmt"
 	"math/rand"
-	"reflect"
 	"slices"
 	"strings"
 	"testing"
@@ -190,25 +189,8 @@ func flowOf(l api.Law, lines []api.Line) []int {
 	return flow
 }
 
-// copied copies a value deeply.
-func copied[T any](x T) T { return copiedValue(reflect.ValueOf(x)).Interface().(T) }
-
-func copiedValue(v reflect.Value) reflect.Value {
-	c := reflect.New(v.Type()).Elem()
-	c.Set(v)
-	switch v.Kind() {
-	case reflect.Struct:
-		for i := range v.NumField() {
-			c.Field(i).Set(copiedValue(v.Field(i)))
-		}
-	case reflect.Slice:
-		if v.IsNil() {
-			break
-		}
-		c.Set(reflect.MakeSlice(v.Type(), v.Len(), v.Len()))
-		for i := range v.Len() {
-			c.Index(i).Set(copiedValue(v.Index(i)))
-		}
-	}
+// copyOf returns a valid law once more, in memory of its own.
+func copyOf(l api.Law) api.Law {
+	c, _ := budget.Of(budget.Articles(l))
 	return c
 }

@@ -4,7 +4,6 @@ import (
 	"fmt"
 	"math"
 	"math/rand"
-	"reflect"
 	"slices"
 	"testing"
 
@@ -22,9 +21,9 @@ func badDrafts(t *testing.T) []struct {
 	want api.Errno
 } {
 	l := lawOf(t, "line 1 12 500; ceiling 1 12 0")
-	tree := copied(l)
+	tree := copyOf(l)
 	tree.Tree[5].Code = "3.1"
-	lines := copied(l)
+	lines := copyOf(l)
 	lines.Lines[0].Year = 11
 	return []struct {
 		name string
@@ -138,7 +137,7 @@ func TestKeepsOfRandomLines(t *testing.T) {
 
 // randomLines returns lines within ranges, but for a few.
 func randomLines(r *rand.Rand, l api.Law, ranges []api.Range) []api.Line {
-	lines := copied(l.Lines)
+	lines := slices.Clone(l.Lines)
 	for _, x := range ranges {
 		lines = slices.DeleteFunc(lines, func(y api.Line) bool { return y.Code == x.Code && y.Year == x.Year })
 		lines = append(lines, lineOf(x.Code, x.Year, x.Least+r.Intn(x.Most-x.Least+1)))
@@ -325,7 +324,7 @@ func TestSolveOfLargeLaws(t *testing.T) {
 // wider fails unless a solution is one of greater ranges, too.
 func wider(t *testing.T, r *rand.Rand, l api.Law, ranges []api.Range, lines []api.Line) {
 	t.Helper()
-	ranges = copied(ranges)
+	ranges = slices.Clone(ranges)
 	for i := range ranges {
 		ranges[i].Least -= min(r.Intn(3), ranges[i].Least)
 		ranges[i].Most = min(ranges[i].Most+r.Intn(3), mostAmount)
@@ -342,8 +341,8 @@ func TestSolveIsTheSameForEqualArguments(t *testing.T) {
 		lines, e := Solve(l, ranges)
 		places, f := Witness(l, ranges)
 		for range 3 {
-			again, g := Solve(copied(l), copied(ranges))
-			others, h := Witness(copied(l), copied(ranges))
+			again, g := Solve(copyOf(l), slices.Clone(ranges))
+			others, h := Witness(copyOf(l), slices.Clone(ranges))
 			if !slices.Equal(again, lines) || g != e || !slices.Equal(others, places) || h != f {
 				t.Fatalf("lines %v and %v, witnesses %v and %v", lines, again, places, others)
 			}
@@ -539,24 +538,24 @@ func TestArgumentsStayAsTheyAre(t *testing.T) {
 	r := rand.New(rand.NewSource(87))
 	for range 100 {
 		l, ranges := randomLaw(r, 8, 2, 9)
-		law, rs := copied(l), copied(ranges)
+		law, rs := copyOf(l), slices.Clone(ranges)
 		net, _ := constraint.Net(l, ranges)
-		arcs := copied(net)
+		arcs := slices.Clone(net.Arcs)
 		lines, _ := Solve(l, ranges)
 		places, _ := Witness(l, ranges)
-		kept, list := copied(lines), copied(places)
+		kept, list := slices.Clone(lines), slices.Clone(places)
 		Keeps(l, ranges, lines)
 		Sides(net, places)
 		Check(net, places)
 		floors, ceilings, _ := Explain(l, ranges, places)
-		if !reflect.DeepEqual(lines, kept) || !reflect.DeepEqual(places, list) || !reflect.DeepEqual(net, arcs) {
+		if !slices.Equal(lines, kept) || !slices.Equal(places, list) || !slices.Equal(net.Arcs, arcs) {
 			t.Fatal("lines, places or arcs were changed")
 		}
 		clear(floors)
 		clear(ceilings)
 		clear(lines)
 		clear(places)
-		if !reflect.DeepEqual(l, law) || !reflect.DeepEqual(ranges, rs) {
+		if !budget.Same(l, law) || !slices.Equal(ranges, rs) {
 			t.Fatal("an argument was changed")
 		}
 	}
