@@ -459,6 +459,8 @@ func TestErrorsOfSend(t *testing.T) {
 	idle.Queue = api.Queue{Known: []int{1}, Batches: []api.Batch{{Number: 1, Day: 21, Payments: []api.Payment{pays(1, 5)}}}}
 	idle.Items = []api.Item{{Payment: pays(1, 5), State: api.StateSettled, Attempts: 1}}
 	idle.Account = post(t, idle.Account, 0, 2, 0, 5, 1)
+	single := deskOf(t, 0, 0)
+	single.Account = post(t, single.Account, 10, 0, 1, 5, 0)
 	late := example(t)
 	late.Account = post(t, late.Account, 10, 0, 1, 5, 0)
 	ordered := good(t, "Order")(Order(deskOf(t, 5, 0), pays(1, 5)))
@@ -483,6 +485,9 @@ func TestErrorsOfSend(t *testing.T) {
 		{"not enough money", ordered, 7, api.ErrNone},
 		{"nothing is due", ordered, 4, api.ErrNone},
 		{"nothing at all", deskOf(t, 5, 5), 4, api.ErrNone},
+		{"no entries", deskOf(t, 0, 0), 4, api.ErrNone},
+		{"before the only entry", single, 9, api.ErrOrder},
+		{"on the day of the only entry", single, 10, api.ErrNone},
 		{"400 entries", full, 8, api.ErrLimit},
 		{"400 entries, and nothing is due", full, 7, api.ErrNone},
 		{"400 entries, on a holiday", full, 13, api.ErrHoliday},
